@@ -1,0 +1,1 @@
+"""Farreads: endless tables whose cells read other cells."""
