@@ -68,6 +68,13 @@ def check_table(system, name):
         raise UnknownTable(name)
 
 
+def check_top(system, name, top):
+    """Raise an error if the system has no table of this name, or a top is negative."""
+    check_table(system, name)
+    if top < 0:
+        raise InvalidNumber(top)
+
+
 def check_cell(system, cell):
     """Cell check."""
     name, point = cell

@@ -1,4 +1,6 @@
-"""Systems and a helper that several tests use."""
+"""Systems and helpers that several tests use."""
+
+import random
 
 from farreads.systems import System
 
@@ -17,6 +19,17 @@ def pair(modulus=97):
     )
 
 
+def both():
+    """Another system of the examples, in which only the cell in the corner is ready."""
+    return System(2, [("a", 1, [("a", (1, -1), 1), ("a", (-1, 1), 1)])])
+
+
+def grow():
+    """The system of the examples whose values are those of Fibonacci."""
+    rows = [("a", 0, [("u", (0,), 1), ("a", (1,), 1), ("a", (2,), 1)]), ("u", 1, [("w", (1,), -1)]), ("w", 1, [])]
+    return System(1, rows, 1000)
+
+
 def trio():
     """A system of one dimension in which every table reads, one of them several times."""
     return System(
@@ -27,6 +40,81 @@ def trio():
             ("c", 0, [("c", (-1,), 9), ("a", (5,), -9)]),
         ],
     )
+
+
+def nest():
+    """A system of three dimensions that needs three levels."""
+    rows = [
+        ("a", 3, [("a", (1, -1, 0), 1), ("b", (0, 0, 0), 2), ("c", (0, 0, 0), -1)]),
+        ("b", 1, [("b", (-1, 1, 0), 1), ("a", (1, 1, -2), 1)]),
+        ("c", 0, [("c", (-1, -1, 2), 4), ("a", (0, 0, 1), 1)]),
+    ]
+    return System(3, rows)
+
+
+def single(*vectors):
+    """A system of one table that reads itself by each of some vectors."""
+    return System(len(vectors[0]), [("a", 1, [("a", vector, 1) for vector in vectors])])
+
+
+def round_of(*vectors):
+    """A system in which each table reads the next one, by one vector, and the last one the first."""
+    rows = []
+    for at, vector in enumerate(vectors):
+        rows.append((LETTERS[at], at, [(LETTERS[(at + 1) % len(vectors)], vector, at + 1)]))
+    return System(len(vectors[0]), rows, 101)
+
+
+def random_system(chance, dimensions, most_tables, most_reads, size, least=0):
+    """A system by chance; its vectors have integers from -size to size, most of them with a sum from `least` on."""
+    names = LETTERS[:chance.randint(1, most_tables)]
+    reads = {name: [] for name in names}
+    for _ in range(chance.randint(1, most_reads)):
+        vector = tuple(chance.randint(-size, size) for _ in range(dimensions))
+        if sum(vector) < least and chance.random() < 0.8:
+            vector = tuple(-step for step in vector)
+        factor = chance.choice([step for step in range(-9, 10) if step != 0])
+        reads[chance.choice(names)].append((chance.choice(names), vector, factor))
+    rows = [(name, chance.randint(-99, 99), reads[name]) for name in names]
+    return System(dimensions, rows, chance.choice([2, 3, 10, 97, 1000003, chance.randint(2, 2 * 10 ** 6)]))
+
+
+def opposed_system(chance, dimensions):
+    """A system by chance in which tables read themselves by vectors that are opposed to those of others."""
+    names = LETTERS[:chance.randint(2, 6)]
+    pool = [tuple(chance.randint(-2, 2) for _ in range(dimensions)) for _ in range(2)]
+    reads = {}
+    for name in names:
+        vector = chance.choice(pool)
+        if chance.random() < 0.5 or max(vector) <= 0:
+            vector = tuple(-step for step in vector)
+        reads[name] = [(name, vector, 1)]
+    for _ in range(chance.randint(0, 12 - len(names))):
+        one, other = chance.sample(names, 2)
+        vector = tuple(chance.choice([0, 0, 0, 1]) for _ in range(dimensions))
+        if chance.random() < 0.3:
+            vector = chance.choice(pool)
+        reads[one].append((other, vector, 1))
+    return System(dimensions, [(name, 0, reads[name]) for name in names])
+
+
+def small_systems(seed, many):
+    """Small systems with greatest points: of one dimension with 100, of two with 6."""
+    chance = random.Random(seed)
+    for number in range(many):
+        if number % 2:
+            yield random_system(chance, 1, 6, 12, 5, 1), 100
+        else:
+            yield random_system(chance, 2, 3, 12, 2), 6
+
+
+def random_cells(chance, system, top, many):
+    """Cells by chance with points to a top, those in the corners among them."""
+    cells = [(name, (place,) * system.dimensions) for name in system.names for place in (0, top)]
+    for _ in range(many):
+        point = tuple(chance.randint(0, top) for _ in range(system.dimensions))
+        cells.append((chance.choice(system.names), point))
+    return cells
 
 
 def error_of(call, *given, **named):

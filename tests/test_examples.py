@@ -19,6 +19,36 @@ CELLS = """
 [[('a', (0, 1)), ('b', (1, 0))], [], True, False]
 """
 
+READY = """
+>>> from farreads.ready import endless_way, is_ready, least_unready, shows_endless
+>>> from farreads.systems import System
+>>> from farreads.ways import a_longest_way, longest_way, needed
+>>> pair = System(2, [('a', 0, [('a', (1, -1), 1), ('b', (0, 0), 1)]), ('b', 1, [('b', (-1, 1), 1), ('a', (0, 1), 1)])])
+>>> both = System(2, [('a', 1, [('a', (1, -1), 1), ('a', (-1, 1), 1)])])
+>>> [longest_way(pair, ('a', (1, 0))), a_longest_way(pair, ('a', (0, 1))), needed(pair, ('b', (0, 1))), is_ready(both, ('a', (0, 0))), least_unready(both, 'a', 3), shows_endless(both, ('a', (1, 0)), endless_way(both, ('a', (1, 0))))]
+[4, [('a', (0, 1)), ('b', (0, 1)), ('a', (0, 0)), ('b', (0, 0))], [('b', (0, 0)), ('b', (1, 0)), ('a', (0, 0)), ('b', (0, 1))], True, [(0, 1), (1, 0)], True]
+"""
+
+# Without what farreads/walks.py and farreads/far.py are to have.
+LEVELS = """
+>>> from farreads.levels import count_levels, drop, is_schedule, schedule, stuck_reads
+>>> from farreads.systems import System
+>>> pair = System(2, [('a', 0, [('a', (1, -1), 1), ('b', (0, 0), 1)]), ('b', 1, [('b', (-1, 1), 1), ('a', (0, 1), 1)])])
+>>> both = System(2, [('a', 1, [('a', (1, -1), 1), ('a', (-1, 1), 1)])])
+>>> first, second = {'a': ((2, 2), 1), 'b': ((2, 2), 0)}, {'a': ((1, 0), 0), 'b': ((0, 1), 0)}
+>>> [count_levels(pair), stuck_reads(pair), is_schedule(pair, [first, second]), is_schedule(pair, [second, first]), drop(pair, first, ('b', 1)), is_schedule(pair, schedule(pair)), count_levels(both)]
+[2, [('a', 0), ('b', 0)], True, False, 1, True, None]
+"""
+
+VALUES = """
+>>> from farreads.systems import System
+>>> from farreads.values import value, values_in
+>>> pair = System(2, [('a', 0, [('a', (1, -1), 1), ('b', (0, 0), 1)]), ('b', 1, [('b', (-1, 1), 1), ('a', (0, 1), 1)])])
+>>> grow = System(1, [('a', 0, [('u', (0,), 1), ('a', (1,), 1), ('a', (2,), 1)]), ('u', 1, [('w', (1,), -1)]), ('w', 1, [])], 1000)
+>>> [value(pair, ('a', (1, 0))), values_in(pair, 'b', 1)[(0, 1)], value(grow, ('a', (16,)))]
+[4, 3, 597]
+"""
+
 README = os.path.join(os.path.dirname(os.path.dirname(os.path.abspath(__file__))), "README.md")
 
 
@@ -37,10 +67,19 @@ class ExamplesTest(unittest.TestCase):
     def test_cells(self):
         self.check(CELLS, 4)
 
+    def test_ready(self):
+        self.check(READY, 6)
+
+    def test_levels(self):
+        self.check(LEVELS, 6)
+
+    def test_values(self):
+        self.check(VALUES, 5)
+
     def test_readme(self):
         with open(README, encoding="utf-8") as file:
             text = "\n".join(line for line in file.read().split("\n") if not line.startswith("```"))
-        self.check(text, 4)
+        self.check(text, 15)
 
 
 if __name__ == "__main__":

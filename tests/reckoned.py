@@ -1,0 +1,195 @@
+"""What the tests reckon by themselves, by other means than the program."""
+
+import itertools
+
+MOST_CELLS = 50000
+
+
+def steps(system, cell):
+    """The cells that a cell reads, each with the factor."""
+    name, point = cell
+    found = []
+    for table, vector, factor in system.reads(name):
+        place = tuple(start - step for start, step in zip(point, vector))
+        if all(each >= 0 for each in place):
+            found.append(((table, place), factor))
+    return found
+
+
+def reached(system, start):
+    """All cells on ways from a cell, as a dict to the steps from them; None if there are very many."""
+    found = {start: None}
+    line = [start]
+    for cell in line:
+        found[cell] = steps(system, cell)
+        for later, _ in found[cell]:
+            if later not in found:
+                found[later] = None
+                line.append(later)
+        if len(line) > MOST_CELLS:
+            return None
+    return found
+
+
+def upwards(cells):
+    """The cells of such a dict, each behind all that it reads; None if some of them read each other in a round."""
+    missing = {cell: len(later) for cell, later in cells.items()}
+    readers = {cell: [] for cell in cells}
+    for cell, later in cells.items():
+        for each, _ in later:
+            readers[each].append(cell)
+    line = [cell for cell in cells if missing[cell] == 0]
+    for cell in line:
+        for reader in readers[cell]:
+            missing[reader] -= 1
+            if missing[reader] == 0:
+                line.append(reader)
+    return line if len(line) == len(cells) else None
+
+
+def lengths_and_values(system, start):
+    """Two dicts from all cells on ways from a cell, to the lengths of the longest ways and to the values.
+
+    None if the cell is not ready.
+    """
+    cells = reached(system, start)
+    line = None if cells is None else upwards(cells)
+    if line is None:
+        return None
+    lengths, values = {}, {}
+    for cell in line:
+        lengths[cell] = max([lengths[later] + 1 for later, _ in cells[cell]] + [0])
+        total = system.constant(cell[0]) + sum(factor * values[later] for later, factor in cells[cell])
+        values[cell] = total % system.modulus
+    return lengths, values
+
+
+def proves_endless(system, start, found):
+    """Whether a tuple (cells, number) is a way from a cell that ends with an endless pair."""
+    cells, number = found
+    if not cells or cells[0] != start or number not in range(len(cells) - 1):
+        return False
+    if any(later not in [step[0] for step in steps(system, cell)] for cell, later in zip(cells, cells[1:])):
+        return False
+    (name, point), (last_name, last_point) = cells[number], cells[-1]
+    return name == last_name and all(one <= other for one, other in zip(point, last_point))
+
+
+def box(dimensions, top):
+    """All points with no integer greater than a top."""
+    return list(itertools.product(range(top + 1), repeat=dimensions))
+
+
+def edges(system):
+    """A dict from all named reads to tuples (table, table that is read, vector)."""
+    found = {}
+    for name in system.names:
+        for number, (table, vector, _) in enumerate(system.reads(name)):
+            found[(name, number)] = (name, table, vector)
+    return found
+
+
+def drop(level, edge):
+    """The drop of a level for an edge, or None."""
+    one, other, vector = edge
+    if one not in level or other not in level or level[one][0] != level[other][0]:
+        return None
+    return sum(a * b for a, b in zip(level[one][0], vector)) + level[one][1] - level[other][1]
+
+
+def is_schedule(system, levels):
+    """Whether a list of levels, each of a right form, is a schedule."""
+    for edge in edges(system).values():
+        drops = [drop(level, edge) for level in levels]
+        steep = [at for at, each in enumerate(drops) if each is not None and each >= 1]
+        if not steep or any(each != 0 for each in drops[:steep[0]]):
+            return False
+    return True
+
+
+def is_level(system, level):
+    """Whether a dict has the form of a level."""
+    return all(
+        name in system.names and len(vector) == system.dimensions and min(vector) >= 0 and isinstance(height, int)
+        for name, (vector, height) in level.items()
+    )
+
+
+def pieces(found):
+    """The pieces of a dict of edges, each one a dict of edges."""
+    left, parts = dict(found), []
+    while left:
+        names, size = set(next(iter(left.values()))[:2]), 0
+        while size < len(names):
+            size = len(names)
+            for one, other, _ in left.values():
+                if one in names or other in names:
+                    names |= {one, other}
+        parts.append({read: edge for read, edge in left.items() if edge[0] in names})
+        left = {read: edge for read, edge in left.items() if edge[0] not in names}
+    return parts
+
+
+def rounds(found):
+    """All closed walks through a dict of edges that come to no table twice, as lists of named reads."""
+    walks = []
+
+    def go_on(first, walk, names):
+        for read, (one, other, _) in found.items():
+            if one == names[-1] and other == first:
+                walks.append(walk + [read])
+            elif one == names[-1] and other > first and other not in names:
+                go_on(first, walk + [read], names + [other])
+
+    for first in sorted({edge[0] for edge in found.values()}):
+        go_on(first, [], [first])
+    return walks
+
+
+def times(one, other):
+    """The sum of the products of two vectors, coordinate by coordinate."""
+    return sum(a * b for a, b in zip(one, other))
+
+
+def inmost(dimensions, sums):
+    """A vector, none of its integers below 0, whose product with no sum is below 0, and above 0 with all that it can.
+
+    It is the sum of all vectors at the edges of what is allowed.
+    """
+    normals = [tuple(int(at == row) for at in range(dimensions)) for row in range(dimensions)] + list(sums)
+    tries = [(1,)]
+    if dimensions == 2:
+        tries = [(-y, x) for x, y in normals]
+    if dimensions == 3:
+        tries = [
+            (b * z - c * y, c * x - a * z, a * y - b * x)
+            for (a, b, c), (x, y, z) in itertools.combinations(normals, 2)
+        ]
+    tries = set(tries) | {tuple(-step for step in vector) for vector in tries}
+    allowed = [vector for vector in tries if all(times(vector, normal) >= 0 for normal in normals)]
+    return tuple(sum(vector[at] for vector in allowed) for at in range(dimensions))
+
+
+def stuck(dimensions, found):
+    """The set of the stuck reads of a dict of edges: those in a round for which nothing goes down in its piece."""
+    names = set()
+    for piece in pieces(found):
+        walks = rounds(piece)
+        sums = [tuple(sum(found[read][2][at] for read in walk) for at in range(dimensions)) for walk in walks]
+        best = inmost(dimensions, sorted(set(sums)))
+        for walk, total in zip(walks, sums):
+            if times(best, total) == 0:
+                names |= set(walk)
+    return names
+
+
+def least_levels(system):
+    """The least number of levels of a schedule, or None."""
+    left, many = edges(system), 0
+    while left:
+        names = stuck(system.dimensions, left)
+        if len(names) == len(left):
+            return None
+        left = {read: edge for read, edge in left.items() if read in names}
+        many += 1
+    return many
