@@ -3,21 +3,15 @@
 from math import gcd
 
 from farreads.checks import check_read, is_point
-from farreads.pieces import links_of, pieces
+from farreads.pieces import links_of, pieces, tables_of
 from farreads.simplex import greatest
 
 
 def schedule(system):
     """Return a schedule with as few levels as possible, None if there is none."""
-    levels = []
-    left = links_of(system)
-    while left:
-        level = steepest_level(system.dimensions, left)
-        stuck = stuck_links(level, left)
-        if len(stuck) == len(left):
-            return None
-        levels.append(level)
-        left = stuck
+    levels, left = levels_and_rest(system)
+    if left:
+        return None
     return levels
 
 
@@ -46,6 +40,20 @@ def drop(system, level, read):
     """Return the drop that a level has for a named read, or None."""
     check_read(system, read)
     return drop_of(level, links_of(system)[read])
+
+
+def levels_and_rest(system):
+    """Return the list of the levels of a shortest schedule, and the dict of the links that no level helps."""
+    levels = []
+    left = links_of(system)
+    while left:
+        level = steepest_level(system.dimensions, left)
+        stuck = stuck_links(level, left)
+        if len(stuck) == len(left):
+            break
+        levels.append(level)
+        left = stuck
+    return levels, left
 
 
 def is_level(system, level):
@@ -92,7 +100,7 @@ def steepest_level(dimensions, links):
 
 def steepest_in_piece(dimensions, links):
     """Return the part of `steepest_level` that a list of links of one piece asks for."""
-    names = sorted(set([link[0] for link in links] + [link[1] for link in links]))
+    names = tables_of(links)
     many = dimensions + len(names)
     # The unknowns: the vector, the heights, and for each link a part of its drop that is at most 1. As
     # levels may be added and multiplied, the sum of these parts is greatest if each one that can be is 1.
@@ -100,7 +108,7 @@ def steepest_in_piece(dimensions, links):
     rows = [drop_less(dimensions, names, link) + unit for link, unit in zip(links, units)]
     rows.extend([[0] * many + unit for unit in units])
     limits = [0] * len(links) + [1] * len(links)
-    found, _ = greatest(rows, limits, [0] * many + [1] * len(links))
+    found = greatest(rows, limits, [0] * many + [1] * len(links))[0]
     numbers = lowest_terms(found[:many])
     vector = tuple(numbers[:dimensions])
     return {name: (vector, height) for name, height in zip(names, numbers[dimensions:])}

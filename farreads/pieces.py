@@ -21,6 +21,11 @@ def pieces(links):
     return list(found.values())
 
 
+def tables_of(links):
+    """Return the ascending list of the names of the tables that a list of links joins."""
+    return sorted(set([link[0] for link in links] + [link[1] for link in links]))
+
+
 def join(labels, one, other):
     """Give all tables that are of one piece with two tables the same label."""
     kept = labels.setdefault(one, one)

@@ -24,8 +24,10 @@ class Tableau:
         return found
 
     def leaving(self, column):
-        """Return the row that holds down a column most; of several, that of the first unknown."""
+        """Return the row that holds down a column most; of several, that of the first unknown; None if none does."""
         rows = [row for row in range(len(self.down)) if self.grid[row][column] > 0]
+        if not rows:
+            return None
         found = rows[0]
         for row in rows[1:]:
             more = self.grid[row][-1] * self.grid[found][column] - self.grid[found][-1] * self.grid[row][column]
@@ -55,18 +57,34 @@ class Tableau:
                 found[unknown] = self.grid[row][-1]
         return found
 
+    def prices(self):
+        """Return the list of the prices of the rows, all multiplied by `scale`."""
+        many = len(self.across)
+        found = [0] * len(self.down)
+        for column, unknown in enumerate(self.across):
+            if unknown >= many:
+                found[unknown - many] = self.grid[-1][column]
+        return found
+
 
 def greatest(rows, limits, worths):
-    """Return a list of integers and a scale; divided by it, they are numbers that make a sum greatest.
+    """Return two lists of integers and a scale, None if there is no greatest sum.
 
-    The sum is that of the products of the numbers and their worths. No number is below 0, and for each
-    row, the sum of the products of the numbers and the row is at most its limit. Callers pass no limit
-    below 0, and only constraints under which the sum has a greatest value.
+    Divided by the scale, the first list has the numbers that make a sum greatest: that of the products of
+    the numbers and their worths. No number is below 0, and for each row, the sum of the products of the
+    numbers and the row is at most its limit. Callers pass no limit below 0.
+
+    Divided by the scale, the second list has a price for each row, none below 0: for each number, the sum
+    of the products of its factors and the prices is at least its worth. The sum of the products of the
+    limits and the prices is the greatest sum; so no such prices make it less.
     """
     tableau = Tableau(rows, limits, worths)
     column = tableau.entering()
     while column is not None:
+        row = tableau.leaving(column)
+        if row is None:
+            return None
         # To take the first unknown wherever there is a choice (Bland) is what makes the loop end.
-        tableau.exchange(tableau.leaving(column), column)
+        tableau.exchange(row, column)
         column = tableau.entering()
-    return tableau.solution(), tableau.scale
+    return tableau.solution(), tableau.prices(), tableau.scale

@@ -93,6 +93,10 @@ class System:
             tables[name] = (constant, tuple(reads))
         return self._with_tables(tables)
 
+    def with_table(self, name, constant, reads):
+        """Return the system with another constant and other reads of a table; callers have checked them."""
+        return self._with_tables({**self._tables, name: (constant, tuple(reads))})
+
     def _check_new_names(self, changed, new_names):
         all_names = list(new_names.values())
         for name in changed:

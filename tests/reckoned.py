@@ -1,6 +1,7 @@
 """What the tests reckon by themselves, by other means than the program."""
 
 import itertools
+import re
 
 MOST_CELLS = 50000
 
@@ -193,3 +194,69 @@ def least_levels(system):
         left = {read: edge for read, edge in left.items() if read in names}
         many += 1
     return many
+
+
+def walk_blocks(system, walk):
+    """Whether a list of named reads is a closed walk no integer of whose sum is above 0."""
+    found = edges(system)
+    if len(walk) == 0 or any(read not in found for read in walk):
+        return False
+    for at, read in enumerate(walk):
+        if found[walk[at - 1]][1] != read[0]:
+            return False
+    return all(part <= 0 for part in walk_total(system, walk))
+
+
+def walk_total(system, walk):
+    """The sum of the vectors of a list of named reads."""
+    total = (0,) * system.dimensions
+    for name, number in walk:
+        total = tuple(map(sum, zip(total, system.reads(name)[number][1])))
+    return total
+
+
+def system_text(system):
+    """The text that writes a system, by putting one sign behind the other."""
+    text = "%d mod %d:" % (system.dimensions, system.modulus)
+    for at, name in enumerate(system.names):
+        text += "%s %s = %d" % (";" if at else "", name, system.constant(name))
+        for table, vector, factor in system.reads(name):
+            text += " " + "+-"[factor < 0] + " "
+            if factor not in (1, -1):
+                text += "%d " % max(factor, -factor)
+            text += cell_text((table, vector))
+    return text
+
+
+def cell_text(cell):
+    """The text that writes a cell."""
+    return cell[0] + str(cell[1]).replace(",)", "]").replace("(", "[").replace(")", "]").replace(",", "")
+
+
+INTEGER = r"(?:0|-?[1-9][0-9]{0,39})"
+FACTOR = r"(?:[2-9]|[1-9][0-9]{1,39})"
+NAME = r"[a-z]{1,8}"
+READ = rf"(?: [+-] (?:{FACTOR} )?{NAME}\[{INTEGER}(?: {INTEGER})*\])"
+SYSTEM_TEXT = re.compile(rf"([1-3]) mod ({INTEGER}): ({NAME} = {INTEGER}{READ}*(?:; {NAME} = {INTEGER}{READ}*)*)")
+CELL_TEXT = re.compile(rf"{NAME}\[(?:0|[1-9][0-9]{{0,39}})(?: (?:0|[1-9][0-9]{{0,39}})){{0,2}}\]")
+
+
+def writes_system(text):
+    """Whether a text writes a system, by a pattern of it and what the pattern cannot tell."""
+    found = SYSTEM_TEXT.fullmatch(text)
+    if found is None:
+        return False
+    names = re.findall(rf"({NAME}) = ", found[3])
+    reads = re.findall(r"([a-z]+)\[([^]]*)\]", found[3])
+    return (
+        int(found[2]) >= 2
+        and len(names) <= 6
+        and len(reads) <= 12
+        and names == sorted(set(names))
+        and all(table in names and len(inside.split()) == int(found[1]) for table, inside in reads)
+    )
+
+
+def writes_cell(text):
+    """Whether a text writes a cell."""
+    return CELL_TEXT.fullmatch(text) is not None

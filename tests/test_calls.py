@@ -1,4 +1,4 @@
-"""[2] for the functions that tell of systems: how they are called, what they leave as it was, what is new."""
+"""[2] for the functions and for sheets: how they are called, what they leave as it was, what is new."""
 
 import copy
 import inspect
@@ -6,7 +6,8 @@ import unittest
 
 from samples import both, error_of, nest, pair
 
-from farreads import levels, ready, values, ways
+from farreads import levels, readings, ready, texts, values, walks, ways
+from farreads.sheets import Sheet
 
 FIRST = {"a": ((2, 2), 1), "b": ((2, 2), 0)}
 SECOND = {"a": ((1, 0), 0), "b": ((0, 1), 0)}
@@ -31,6 +32,12 @@ def calls():
         (levels.stuck_reads, {"system": nest()}),
         (levels.is_schedule, {"system": pair(), "levels": copy.deepcopy([FIRST, SECOND])}),
         (levels.drop, {"system": pair(), "level": copy.deepcopy(FIRST), "read": ("b", 1)}),
+        (walks.closed_walk, {"system": both()}),
+        (walks.blocks, {"system": both(), "reads": [("a", 0), ("a", 1)]}),
+        (walks.walk_sum, {"system": pair(), "reads": [("a", 0), ("b", 1), ("a", 0)]}),
+        (texts.show_system, {"system": nest()}),
+        (texts.show_cell, {"cell": cell}),
+        (readings.read_cell, {"text": "a[2 1]"}),
     ]
 
 
@@ -46,6 +53,9 @@ def calls_that_raise():
         (values.value, {"system": both(), "cell": ("a", (2, 1))}),
         (values.values_in, {"system": both(), "name": "c", "top": 2}),
         (levels.drop, {"system": pair(), "level": copy.deepcopy(FIRST), "read": ("b", 2)}),
+        (walks.walk_sum, {"system": pair(), "reads": [("a", 0), ("b", 2), ("a", 0)]}),
+        (readings.read_system, {"text": "2 mod 97: b = 0; a = 0"}),
+        (readings.read_cell, {"text": "a[2 -1]"}),
     ]
 
 
@@ -113,10 +123,36 @@ class CallsTest(unittest.TestCase):
             ways: "longest_way a_longest_way needed",
             values: "value values_in",
             levels: "schedule count_levels stuck_reads is_schedule drop",
+            walks: "closed_walk blocks walk_sum",
+            texts: "show_system show_cell",
+            readings: "read_system read_cell",
         }
         for module, names in listed.items():
             for name in names.split():
                 self.assertEqual(getattr(module, name).__module__, module.__name__)
+
+    def test_systems_by_position_and_by_name(self):
+        text = texts.show_system(nest())
+        for call in (readings.read_system, Sheet.of_text):
+            self.assertTrue(call(text=text) == call(text))
+            self.assertEqual(list(inspect.signature(call).parameters), ["text"])
+        for call, names in (
+            (Sheet, ["system"]),
+            (Sheet(pair()).add, ["name", "read"]),
+            (Sheet(pair()).drop, ["name", "number"]),
+            (Sheet(pair()).put, ["name", "constant"]),
+            (Sheet(pair()).undo, []),
+            (Sheet(pair()).unready, []),
+        ):
+            self.assertEqual(list(inspect.signature(call).parameters), names)
+
+    def test_systems_that_are_read_share_nothing(self):
+        text = texts.show_system(nest())
+        one, other = readings.read_system(text), readings.read_system(text)
+        one.reads("a").clear()
+        one.names.clear()
+        self.assertTrue(one == other)
+        self.assertTrue(one == nest())
 
     def test_any_number_of_calls_on_a_system(self):
         system = pair()

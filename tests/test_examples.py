@@ -29,17 +29,18 @@ READY = """
 [4, [('a', (0, 1)), ('b', (0, 1)), ('a', (0, 0)), ('b', (0, 0))], [('b', (0, 0)), ('b', (1, 0)), ('a', (0, 0)), ('b', (0, 1))], True, [(0, 1), (1, 0)], True]
 """
 
-# Without what farreads/walks.py and farreads/far.py are to have.
 LEVELS = """
 >>> from farreads.levels import count_levels, drop, is_schedule, schedule, stuck_reads
 >>> from farreads.systems import System
+>>> from farreads.walks import blocks, closed_walk, walk_sum
 >>> pair = System(2, [('a', 0, [('a', (1, -1), 1), ('b', (0, 0), 1)]), ('b', 1, [('b', (-1, 1), 1), ('a', (0, 1), 1)])])
 >>> both = System(2, [('a', 1, [('a', (1, -1), 1), ('a', (-1, 1), 1)])])
 >>> first, second = {'a': ((2, 2), 1), 'b': ((2, 2), 0)}, {'a': ((1, 0), 0), 'b': ((0, 1), 0)}
->>> [count_levels(pair), stuck_reads(pair), is_schedule(pair, [first, second]), is_schedule(pair, [second, first]), drop(pair, first, ('b', 1)), is_schedule(pair, schedule(pair)), count_levels(both)]
-[2, [('a', 0), ('b', 0)], True, False, 1, True, None]
+>>> [count_levels(pair), stuck_reads(pair), is_schedule(pair, [first, second]), is_schedule(pair, [second, first]), drop(pair, first, ('b', 1)), is_schedule(pair, schedule(pair)), closed_walk(pair), blocks(both, closed_walk(both)), blocks(both, [('a', 0), ('a', 1)]), walk_sum(both, [('a', 0), ('a', 0)]), count_levels(both)]
+[2, [('a', 0), ('b', 0)], True, False, 1, True, None, True, True, (2, -2), None]
 """
 
+# Without what farreads/far.py is to have.
 VALUES = """
 >>> from farreads.systems import System
 >>> from farreads.values import value, values_in
@@ -47,6 +48,26 @@ VALUES = """
 >>> grow = System(1, [('a', 0, [('u', (0,), 1), ('a', (1,), 1), ('a', (2,), 1)]), ('u', 1, [('w', (1,), -1)]), ('w', 1, [])], 1000)
 >>> [value(pair, ('a', (1, 0))), values_in(pair, 'b', 1)[(0, 1)], value(grow, ('a', (16,)))]
 [4, 3, 597]
+"""
+
+SHEETS = """
+>>> from farreads.sheets import Sheet
+>>> sheet = Sheet.of_text('2 mod 97: a = 1 + a[1 -1]')
+>>> [sheet.add('a', ('a', (-1, 1), 2)), list(sheet.unready()), sheet.drop('a', 0), sheet.put('a', 5), sheet.undo(), sheet.system.constant('a')]
+[(1, None), [('a', (0, 1)), ('a', (1, 0))], (None, 1), (1, 1), None, 1]
+"""
+
+TEXTS = """
+>>> from farreads.systems import System
+>>> from farreads.texts import show_cell, show_system
+>>> [show_system(System(2, [('b', 0, []), ('a', -1, [('b', (1, 0), 2), ('a', (0, -1), -1)])], 97)), show_cell(('a', (3, 4)))]
+['2 mod 97: a = -1 + 2 b[1 0] - a[0 -1]; b = 0', 'a[3 4]']
+"""
+
+READINGS = """
+>>> from farreads.readings import read_cell, read_system
+>>> [read_cell('a[3 4]'), read_system('2 mod 97: a = 0 - 2 a[1 0]').reads('a')]
+[('a', (3, 4)), [('a', (1, 0), -2)]]
 """
 
 README = os.path.join(os.path.dirname(os.path.dirname(os.path.abspath(__file__))), "README.md")
@@ -71,10 +92,19 @@ class ExamplesTest(unittest.TestCase):
         self.check(READY, 6)
 
     def test_levels(self):
-        self.check(LEVELS, 6)
+        self.check(LEVELS, 7)
 
     def test_values(self):
         self.check(VALUES, 5)
+
+    def test_sheets(self):
+        self.check(SHEETS, 3)
+
+    def test_texts(self):
+        self.check(TEXTS, 3)
+
+    def test_readings(self):
+        self.check(READINGS, 2)
 
     def test_readme(self):
         with open(README, encoding="utf-8") as file:

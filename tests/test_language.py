@@ -14,6 +14,7 @@ METHODS = {
     *"append clear copy count endswith extend find get index insert isalnum isalpha isdigit islower isspace".split(),
     *"isupper items join keys ljust lower lstrip partition pop remove replace reverse rfind rjust rpartition".split(),
     *"rsplit rstrip setdefault split splitlines startswith strip update upper values zfill bit_length".split(),
+    *"removeprefix removesuffix".split(),
 }
 
 
@@ -85,15 +86,19 @@ class LanguageTest(unittest.TestCase):
             self.assertEqual(sorted((taken | imports) & set(bound)), [], name)
 
     def test_imports_name_the_file_that_defines(self):
-        defined = {
-            name: {node.name for node in ast.parse(text).body if isinstance(node, (ast.FunctionDef, ast.ClassDef))}
-            for name, text in files().items()
-        }
+        defined = {name: set(self.defined_names(ast.parse(text))) for name, text in files().items()}
         for name, node in self.nodes(ast.ImportFrom):
             if node.module not in LIBRARY:
                 for each in node.names:
                     self.assertIn(each.name, defined[node.module.replace("farreads.", "") + ".py"], name)
                     self.assertIsNone(each.asname, name)
+
+    def defined_names(self, tree):
+        for node in tree.body:
+            if isinstance(node, (ast.FunctionDef, ast.ClassDef)):
+                yield node.name
+            if isinstance(node, ast.Assign):
+                yield node.targets[0].id
 
     def test_no_files_import_each_other(self):
         needs = {name: set() for name in files()}

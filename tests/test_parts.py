@@ -8,7 +8,7 @@ from fractions import Fraction
 from samples import pair, trio
 
 from farreads.levels import lowest_terms
-from farreads.pieces import links_of, pieces
+from farreads.pieces import links_of, pieces, tables_of
 from farreads.points import box, is_below, step_back
 from farreads.simplex import greatest
 
@@ -59,6 +59,12 @@ class PiecesTest(unittest.TestCase):
         self.assertEqual([sorted(piece) for piece in pieces({row: links[row] for row in (0, 1, 2)})], [[0], [1], [2]])
 
 
+    def test_tables(self):
+        self.assertEqual(tables_of(list(links_of(trio()).values())), ["a", "b", "c"])
+        self.assertEqual(tables_of([("z", "b", (0,)), ("b", "b", (1,)), ("z", "x", (2,))]), ["b", "x", "z"])
+        self.assertEqual(tables_of([]), [])
+
+
 class LowestTermsTest(unittest.TestCase):
     def test_known(self):
         self.assertEqual(lowest_terms([4, 6, 0]), [2, 3, 0])
@@ -71,9 +77,13 @@ class LowestTermsTest(unittest.TestCase):
 class GreatestTest(unittest.TestCase):
     def check(self, rows, limits, worths, best):
         """Check that a solution is allowed and has the best worth."""
-        found, scale = greatest(rows, limits, worths)
+        found, prices, scale = greatest(rows, limits, worths)
         self.assertGreater(scale, 0)
-        self.assertTrue(all(number >= 0 for number in found))
+        self.assertTrue(all(number >= 0 for number in found + prices))
+        self.assertEqual([len(found), len(prices)], [len(worths), len(rows)])
+        for at, worth in enumerate(worths):
+            self.assertGreaterEqual(sum(row[at] * price for row, price in zip(rows, prices)), worth * scale)
+        self.assertEqual(Fraction(sum(one * other for one, other in zip(limits, prices)), scale), best)
         for row, limit in zip(rows, limits):
             self.assertLessEqual(sum(one * other for one, other in zip(row, found)), limit * scale)
         self.assertEqual(Fraction(sum(one * other for one, other in zip(worths, found)), scale), best)
@@ -112,6 +122,24 @@ class GreatestTest(unittest.TestCase):
         self.check(rows, [0, 0, 0, 1], [2, 3, 1, 2, -5], 0)
         rows = [[8, 2, 0, -3, 4], [9, 2, 5, 1, 6], [-3, 4, 0, -3, 9], [1] * 5]
         self.check(rows, [0, 0, 0, 1], [1, -1, 1, 7, 4], 0)
+
+    def test_prices(self):
+        self.assertEqual(greatest([[1], [1]], [7, 5], [3]), ([5], [0, 3], 1))
+        self.assertEqual(greatest([[2], [3]], [7, 5], [3]), ([5], [0, 3], 3))
+        self.assertEqual(greatest([[1]], [7], [-1]), ([0], [0], 1))
+
+    def test_no_greatest_sum(self):
+        self.assertIsNone(greatest([[0]], [7], [1]))
+        self.assertIsNone(greatest([[-1]], [7], [1]))
+        self.assertIsNone(greatest([[1, -1]], [7], [1, 1]))
+        self.assertIsNone(greatest([[1, -1], [-1, 1]], [0, 0], [1, 1]))
+        self.assertIsNone(greatest([[1, 0, -1], [0, 1, 0]], [3, 3], [1, 1, 1]))
+        self.assertIsNone(greatest([], [], [1]))
+        self.check([[1, -1], [-1, 1]], [0, 0], [1, -1], 0)
+        self.check([[0, 1]], [7], [0, 2], 14)
+
+    def test_nothing_unknown(self):
+        self.assertEqual(greatest([[], []], [1, 0], []), ([], [0, 0], 1))
 
     def test_beside_a_search_over_whole_numbers(self):
         chance = random.Random(120)
