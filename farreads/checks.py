@@ -1,6 +1,6 @@
 """The checks that several parts of the program share, with the errors that they raise."""
 
-from farreads.errors import InvalidCell, InvalidNumber, InvalidRead, InvalidSystem, UnknownTable
+from farreads.errors import InvalidCell, InvalidNumber, InvalidRead, InvalidShifts, InvalidSystem, UnknownTable
 
 MOST_DIMENSIONS = 3
 MOST_TABLES = 6
@@ -88,3 +88,13 @@ def check_read(system, read):
     name, number = read
     if name not in system.names or not 0 <= number < len(system.reads(name)):
         raise InvalidRead(read)
+
+
+def check_shifts(system, shifts):
+    """Raise an error if a dict is no shift of the system."""
+    for name in system.names:
+        if name not in shifts or len(shifts[name]) != system.dimensions:
+            raise InvalidShifts(name)
+    for name in sorted(shifts):
+        if name not in system.names:
+            raise InvalidShifts(name)

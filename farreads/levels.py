@@ -1,9 +1,8 @@
 """Schedules: the levels that show that all cells are ready, and the reads that get stuck."""
 
-from math import gcd
-
 from farreads.checks import check_read, is_point
 from farreads.pieces import links_of, pieces, tables_of
+from farreads.quotients import lowest_terms
 from farreads.simplex import greatest
 
 
@@ -121,11 +120,3 @@ def drop_less(dimensions, names, link):
     factors[dimensions + names.index(reader)] -= 1
     factors[dimensions + names.index(table)] += 1
     return factors
-
-
-def lowest_terms(numbers):
-    """Return numbers divided by their greatest common divisor."""
-    common = 0
-    for number in numbers:
-        common = gcd(common, number)
-    return [number // max(common, 1) for number in numbers]

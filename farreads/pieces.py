@@ -21,6 +21,14 @@ def pieces(links):
     return list(found.values())
 
 
+def piece_of(links, name):
+    """Return the piece of a dict of links to which a table belongs; it is empty if no link joins the table."""
+    for piece in pieces(links):
+        if name in tables_of(list(piece.values())):
+            return piece
+    return {}
+
+
 def tables_of(links):
     """Return the ascending list of the names of the tables that a list of links joins."""
     return sorted(set([link[0] for link in links] + [link[1] for link in links]))

@@ -1,8 +1,9 @@
 """Closed walks: reads one after the other that show that there is no schedule."""
 
 from farreads.checks import check_read
-from farreads.levels import drop_less, levels_and_rest, lowest_terms
+from farreads.levels import drop_less, levels_and_rest
 from farreads.pieces import links_of, pieces, tables_of
+from farreads.quotients import lowest_terms
 from farreads.simplex import greatest
 
 

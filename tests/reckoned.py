@@ -2,6 +2,7 @@
 
 import itertools
 import re
+from fractions import Fraction
 
 MOST_CELLS = 50000
 
@@ -17,10 +18,10 @@ def steps(system, cell):
     return found
 
 
-def reached(system, start):
-    """All cells on ways from a cell, as a dict to the steps from them; None if there are very many."""
-    found = {start: None}
-    line = [start]
+def reached(system, starts):
+    """All cells on ways from some cells, as a dict to the steps from them; None if there are very many."""
+    found = {start: None for start in starts}
+    line = list(starts)
     for cell in line:
         found[cell] = steps(system, cell)
         for later, _ in found[cell]:
@@ -48,12 +49,12 @@ def upwards(cells):
     return line if len(line) == len(cells) else None
 
 
-def lengths_and_values(system, start):
-    """Two dicts from all cells on ways from a cell, to the lengths of the longest ways and to the values.
+def lengths_and_values(system, *starts):
+    """Two dicts from all cells on ways from some cells, to the lengths of the longest ways and to the values.
 
-    None if the cell is not ready.
+    None if one of the cells is not ready.
     """
-    cells = reached(system, start)
+    cells = reached(system, starts)
     line = None if cells is None else upwards(cells)
     if line is None:
         return None
@@ -213,6 +214,70 @@ def walk_total(system, walk):
     for name, number in walk:
         total = tuple(map(sum, zip(total, system.reads(name)[number][1])))
     return total
+
+
+def walk_bars(system, walk):
+    """Whether a list of named reads is a closed walk some integer of whose sum is below 0."""
+    found = edges(system)
+    if len(walk) == 0 or any(read not in found for read in walk):
+        return False
+    if any(found[walk[at - 1]][1] != read[0] for at, read in enumerate(walk)):
+        return False
+    return any(part < 0 for part in walk_total(system, walk))
+
+
+def piece_at(system, name):
+    """The edges of the piece of a table, and the set of the names in it."""
+    for piece in pieces(edges(system)):
+        names = {edge[0] for edge in piece.values()} | {edge[1] for edge in piece.values()}
+        if name in names:
+            return piece, names
+    return {}, {name}
+
+
+def bound_worth(system, cell, found):
+    """The bound that a tuple (vector, heights) gives for a cell, as a Fraction, or None."""
+    (name, point), (vector, heights) = cell, found
+    piece, names = piece_at(system, name)
+    vector = [Fraction(*number) for number in vector]
+    heights = {each: Fraction(*number) for each, number in heights.items()}
+    if len(vector) != len(point) or set(heights) != names or min([*vector, *heights.values()]) < 0:
+        return None
+    if any(times(vector, step) + heights[one] - heights[other] < 1 for one, other, step in piece.values()):
+        return None
+    return times(vector, point) + heights[name]
+
+
+def flow_worth(system, cell, found):
+    """The sum of a dict of weights, as a Fraction, or None if they are no flow for a cell."""
+    name, point = cell
+    piece, names = piece_at(system, name)
+    weights = {read: Fraction(*number) for read, number in found.items()}
+    if not set(weights) <= set(piece) or any(weight < 0 for weight in weights.values()):
+        return None
+    for each in names:
+        gone = sum(weight for read, weight in weights.items() if piece[read][0] == each)
+        come = sum(weight for read, weight in weights.items() if piece[read][1] == each)
+        if gone > come + (each == name):
+            return None
+    for axis, most in enumerate(point):
+        if sum(weight * piece[read][2][axis] for read, weight in weights.items()) > most:
+            return None
+    return sum(weights.values(), Fraction(0))
+
+
+def least_sums(system):
+    """A dict from all names to the least sums of walks from there, coordinate by coordinate; None if there are none."""
+    found = edges(system).values()
+    sums = {name: [0] * system.dimensions for name in system.names}
+    for _ in range(200):
+        before = [list(total) for total in sums.values()]
+        for one, other, vector in found:
+            for axis, step in enumerate(vector):
+                sums[one][axis] = min(sums[one][axis], step + sums[other][axis])
+        if before == list(sums.values()):
+            return {name: tuple(total) for name, total in sums.items()}
+    return None
 
 
 def system_text(system):

@@ -117,6 +117,56 @@ def random_cells(chance, system, top, many):
     return cells
 
 
+def great_systems(seed, many):
+    """Chains and rounds of six tables with twelve reads, of one to three dimensions."""
+    chance = random.Random(seed)
+    for number in range(many):
+        dimensions, rows = 1 + number % 3, {name: [] for name in "abcdef"}
+        for at in range(12):
+            reader, table = "abcdef"[at % 6], "bcdefa"[at % 6]
+            if number % 2 and reader == "f" or at >= 6 and chance.random() < 0.3:
+                table = chance.choice("abcdef")
+            vector = tuple(chance.randint(chance.choice([-5, -1]), 5) for _ in range(dimensions))
+            rows[reader].append((table, vector, 1))
+        yield System(dimensions, [(name, 0, rows[name]) for name in rows])
+
+
+def random_walk(chance, system, most):
+    """A list of named reads, each of the table that the one before reads; often closed."""
+    reads = system.all_reads()
+    walk = [chance.choice(reads)]
+    for _ in range(chance.randint(0, most - 1)):
+        table = system.reads(walk[-1][0])[walk[-1][1]][0]
+        on = [read for read in reads if read[0] == table]
+        if not on or table == walk[0][0] and chance.random() < 0.5:
+            break
+        walk.append(chance.choice(on))
+    return walk
+
+
+def bent_walks(chance, system, walk):
+    """Walks that are a little other than another one, which is not empty."""
+    reads = system.all_reads()
+    at, other = chance.randrange(len(walk)), chance.randrange(len(walk))
+    exchanged = list(walk)
+    exchanged[at], exchanged[other] = walk[other], walk[at]
+    return [
+        walk[:at] + walk[at + 1:],
+        walk[:at] + [chance.choice(reads)] + walk[at:],
+        walk[:at] + [chance.choice(reads)] + walk[at + 1:],
+        walk[:at] + walk[at:at + 1] + walk[at:],
+        exchanged,
+        walk[::-1],
+        walk[at:] + walk[:at],
+        walk + walk,
+        walk * 3,
+        walk + [chance.choice([("a", -1), ("a", len(system.reads("a"))), ("q", 0), ("", 0)])],
+        [(name, number + 1) for name, number in walk],
+        random_walk(chance, system, 6),
+        random_walk(chance, system, 3) + walk,
+    ]
+
+
 def error_of(call, *given, **named):
     """Return the class and the value of the ReadError that a call raises, or None if it raises none."""
     from farreads.errors import ReadError

@@ -4,9 +4,9 @@ import copy
 import inspect
 import unittest
 
-from samples import both, error_of, nest, pair
+from samples import both, error_of, grow, nest, pair, single
 
-from farreads import levels, readings, ready, texts, values, walks, ways
+from farreads import bounds, cuts, far, levels, readings, ready, shifts, texts, values, walks, ways
 from farreads.sheets import Sheet
 
 FIRST = {"a": ((2, 2), 1), "b": ((2, 2), 0)}
@@ -38,6 +38,17 @@ def calls():
         (texts.show_system, {"system": nest()}),
         (texts.show_cell, {"cell": cell}),
         (readings.read_cell, {"text": "a[2 1]"}),
+        (bounds.way_bound, {"system": single((1, -1), (0, 1)), "cell": cell}),
+        (bounds.bound_numbers, {"system": single((1, -1), (0, 1)), "cell": cell}),
+        (bounds.flow_weights, {"system": single((1, -1), (0, 1)), "cell": cell}),
+        (bounds.bound_worth, {"system": single((1, 0)), "cell": cell, "found": (((1, 1), (0, 1)), {"a": (0, 1)})}),
+        (bounds.flow_worth, {"system": single((1, 0), (0, 1)), "cell": cell, "found": {("a", 1): (1, 2)}}),
+        (shifts.greatest_shifts, {"system": single((1, 0))}),
+        (shifts.barring_walk, {"system": nest()}),
+        (shifts.bars, {"system": both(), "reads": [("a", 0), ("a", 0)]}),
+        (cuts.fewest_cuts, {"system": both()}),
+        (cuts.must_go, {"system": both()}),
+        (far.far_value, {"system": grow(), "name": "a", "place": 10 ** 30}),
     ]
 
 
@@ -56,6 +67,13 @@ def calls_that_raise():
         (walks.walk_sum, {"system": pair(), "reads": [("a", 0), ("b", 2), ("a", 0)]}),
         (readings.read_system, {"text": "2 mod 97: b = 0; a = 0"}),
         (readings.read_cell, {"text": "a[2 -1]"}),
+        (bounds.way_bound, {"system": pair(), "cell": ("a", (2, -1))}),
+        (bounds.bound_numbers, {"system": pair(), "cell": ("c", (2, 1))}),
+        (bounds.flow_weights, {"system": pair(), "cell": ("a", (2,))}),
+        (bounds.bound_worth, {"system": pair(), "cell": ("c", ()), "found": (((1, 1),), {"a": (0, 1)})}),
+        (bounds.flow_worth, {"system": pair(), "cell": ("b", ()), "found": {("a", 1): (1, 2)}}),
+        (shifts.shifted, {"system": pair(), "shifts": {"b": (1, 2), "c": (3,)}}),
+        (far.far_value, {"system": single((0,)), "name": "a", "place": 10 ** 30}),
     ]
 
 
@@ -126,10 +144,25 @@ class CallsTest(unittest.TestCase):
             walks: "closed_walk blocks walk_sum",
             texts: "show_system show_cell",
             readings: "read_system read_cell",
+            bounds: "way_bound bound_numbers flow_weights bound_worth flow_worth",
+            shifts: "shifted greatest_shifts barring_walk bars",
+            cuts: "fewest_cuts must_go",
+            far: "far_value",
         }
         for module, names in listed.items():
             for name in names.split():
                 self.assertEqual(getattr(module, name).__module__, module.__name__)
+
+    def test_dicts_and_tuples_as_they_were(self):
+        numbers = (((1, 1), (0, 1)), {"a": (0, 1)})
+        weights = {("a", 1): (1, 2), ("a", 0): (0, 1)}
+        found = {"b": (1, 2), "a": (0, 9)}
+        bounds.bound_worth(single((1, 0)), ("a", (1, 1)), numbers)
+        bounds.flow_worth(single((1, 0), (0, 1)), ("a", (1, 1)), weights)
+        shifts.shifted(pair(), found)
+        self.assertEqual(numbers, (((1, 1), (0, 1)), {"a": (0, 1)}))
+        self.assertEqual(list(weights.items()), [(("a", 1), (1, 2)), (("a", 0), (0, 1))])
+        self.assertEqual(list(found.items()), [("b", (1, 2)), ("a", (0, 9))])
 
     def test_systems_by_position_and_by_name(self):
         text = texts.show_system(nest())
@@ -137,6 +170,7 @@ class CallsTest(unittest.TestCase):
             self.assertTrue(call(text=text) == call(text))
             self.assertEqual(list(inspect.signature(call).parameters), ["text"])
         for call, names in (
+            (shifts.shifted, ["system", "shifts"]),
             (Sheet, ["system"]),
             (Sheet(pair()).add, ["name", "read"]),
             (Sheet(pair()).drop, ["name", "number"]),

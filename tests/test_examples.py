@@ -40,14 +40,40 @@ LEVELS = """
 [2, [('a', 0), ('b', 0)], True, False, 1, True, None, True, True, (2, -2), None]
 """
 
-# Without what farreads/far.py is to have.
+BOUNDS = """
+>>> from farreads.bounds import bound_numbers, bound_worth, flow_weights, flow_worth, way_bound
+>>> from farreads.systems import System
+>>> chain = System(1, [('a', 0, [('b', (-3,), 1)]), ('b', 1, [('a', (4,), 1)])])
+>>> far = ('a', (10 ** 30,))
+>>> [way_bound(chain, ('a', (10,))), bound_worth(chain, ('a', (10,)), (((2, 1),), {'a': (7, 1), 'b': (0, 1)})), flow_worth(chain, ('a', (10,)), {('a', 0): (14, 1), ('b', 0): (13, 1)}), way_bound(chain, far) == bound_worth(chain, far, bound_numbers(chain, far)), way_bound(chain, far) == flow_worth(chain, far, flow_weights(chain, far))]
+[(27, 1), (27, 1), (27, 1), True, True]
+"""
+
+SHIFTS = """
+>>> from farreads.shifts import barring_walk, bars, greatest_shifts, shifted
+>>> from farreads.systems import System
+>>> chain = System(1, [('a', 0, [('b', (-3,), 1)]), ('b', 1, [('a', (4,), 1)])])
+>>> moved = shifted(chain, greatest_shifts(chain))
+>>> [greatest_shifts(chain), moved.reads('a'), moved.reads('b'), barring_walk(chain), bars(System(1, [('a', 0, [('a', (-1,), 1)])]), [('a', 0)])]
+[{'a': (-3,), 'b': (0,)}, [('b', (0,), 1)], [('a', (1,), 1)], None, True]
+"""
+
+CUTS = """
+>>> from farreads.cuts import fewest_cuts, must_go
+>>> from farreads.systems import System
+>>> both = System(2, [('a', 1, [('a', (1, -1), 1), ('a', (-1, 1), 1)])])
+>>> [fewest_cuts(both), must_go(both), fewest_cuts(both.without([('a', 0)]))]
+[[('a', 0)], [('a', 0), ('a', 1)], []]
+"""
+
 VALUES = """
+>>> from farreads.far import far_value
 >>> from farreads.systems import System
 >>> from farreads.values import value, values_in
 >>> pair = System(2, [('a', 0, [('a', (1, -1), 1), ('b', (0, 0), 1)]), ('b', 1, [('b', (-1, 1), 1), ('a', (0, 1), 1)])])
 >>> grow = System(1, [('a', 0, [('u', (0,), 1), ('a', (1,), 1), ('a', (2,), 1)]), ('u', 1, [('w', (1,), -1)]), ('w', 1, [])], 1000)
->>> [value(pair, ('a', (1, 0))), values_in(pair, 'b', 1)[(0, 1)], value(grow, ('a', (16,)))]
-[4, 3, 597]
+>>> [value(pair, ('a', (1, 0))), values_in(pair, 'b', 1)[(0, 1)], far_value(grow, 'a', 11), value(grow, ('a', (16,))), far_value(grow, 'a', 10 ** 30) == far_value(grow, 'a', 1000)]
+[4, 3, 144, 597, True]
 """
 
 SHEETS = """
@@ -70,7 +96,8 @@ READINGS = """
 [('a', (3, 4)), [('a', (1, 0), -2)]]
 """
 
-README = os.path.join(os.path.dirname(os.path.dirname(os.path.abspath(__file__))), "README.md")
+HERE = os.path.dirname(os.path.abspath(__file__))
+README = os.path.join(os.path.dirname(HERE), "README.md")
 
 
 class ExamplesTest(unittest.TestCase):
@@ -94,8 +121,17 @@ class ExamplesTest(unittest.TestCase):
     def test_levels(self):
         self.check(LEVELS, 7)
 
+    def test_bounds(self):
+        self.check(BOUNDS, 5)
+
+    def test_shifts(self):
+        self.check(SHIFTS, 5)
+
+    def test_cuts(self):
+        self.check(CUTS, 4)
+
     def test_values(self):
-        self.check(VALUES, 5)
+        self.check(VALUES, 6)
 
     def test_sheets(self):
         self.check(SHEETS, 3)

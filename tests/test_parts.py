@@ -1,4 +1,4 @@
-"""The parts of the program behind the interface: points, pieces, and greatest sums."""
+"""The parts of the program behind the interface: points, pieces, fractions, polynomials, and greatest sums."""
 
 import itertools
 import random
@@ -7,9 +7,10 @@ from fractions import Fraction
 
 from samples import pair, trio
 
-from farreads.levels import lowest_terms
-from farreads.pieces import links_of, pieces, tables_of
+from farreads.pieces import links_of, piece_of, pieces, tables_of
 from farreads.points import box, is_below, step_back
+from farreads.polynomials import determinant, multiply, power_of_x, remainder
+from farreads.quotients import common_denominator, fraction, lowest_terms, times_whole
 from farreads.simplex import greatest
 
 
@@ -65,6 +66,14 @@ class PiecesTest(unittest.TestCase):
         self.assertEqual(tables_of([]), [])
 
 
+    def test_piece_of(self):
+        pairs = [("a", "a"), ("b", "c"), ("e", "d"), ("f", "a"), ("d", "b")]
+        links = {row: (one, other, (0,)) for row, (one, other) in enumerate(pairs)}
+        for names, rows in (("af", [0, 3]), ("bcde", [1, 2, 4]), ("gz", [])):
+            for name in names:
+                self.assertEqual(sorted(piece_of(links, name)), rows)
+
+
 class LowestTermsTest(unittest.TestCase):
     def test_known(self):
         self.assertEqual(lowest_terms([4, 6, 0]), [2, 3, 0])
@@ -72,6 +81,47 @@ class LowestTermsTest(unittest.TestCase):
         self.assertEqual(lowest_terms([3, 7]), [3, 7])
         self.assertEqual(lowest_terms([0, 5, 0]), [0, 1, 0])
         self.assertEqual(lowest_terms([0, 0]), [0, 0])
+
+
+    def test_fractions(self):
+        for top, bottom, found in ((4, 6, (2, 3)), (0, 9, (0, 1)), (-4, 6, (-2, 3)), (9, 3, (3, 1)), (7, 1, (7, 1))):
+            self.assertEqual(fraction(top, bottom), found)
+            self.assertIs(type(fraction(top, bottom)), tuple)
+
+    def test_common_denominator(self):
+        self.assertEqual(common_denominator([]), 1)
+        self.assertEqual(common_denominator([(1, 4), (5, 6), (-3, 1)]), 12)
+        self.assertEqual(common_denominator([(1, 10 ** 40), (5, 3)]), 3 * 10 ** 40)
+        self.assertEqual([times_whole(number, 12) for number in ((1, 4), (5, 6), (-3, 1), (0, 1))], [3, 10, -36, 0])
+
+
+class PolynomialsTest(unittest.TestCase):
+    def check_same(self, one, other):
+        self.assertEqual({at: part for at, part in one.items() if part}, {at: part for at, part in other.items() if part})
+
+    def test_multiply(self):
+        self.check_same(multiply({0: 1, 1: -1}, {0: 1, 1: 1}), {0: 1, 2: -1})
+        self.check_same(multiply({-2: 3}, {2: 5, 0: 1}), {0: 15, -2: 3})
+        self.check_same(multiply({}, {2: 5}), {})
+
+    def test_determinant(self):
+        self.check_same(determinant([]), {0: 1})
+        self.check_same(determinant([[{3: 4}]]), {3: 4})
+        self.check_same(determinant([[{1: 2}, {-1: 3}], [{2: 5}, {0: 7}]]), {1: 14 - 15})
+        self.check_same(determinant([[{}, {0: 1}, {}], [{}, {}, {0: 1}], [{5: 1}, {}, {}]]), {5: 1})
+        self.check_same(determinant([[{}, {0: 1}], [{0: 1}, {}]]), {0: -1})
+
+    def test_remainder(self):
+        self.assertEqual(remainder([0, 0, 1], [1, -1, -1], 97), [1, 1])
+        self.assertEqual(remainder([0, 0, 0, 0, 0, 0, 1], [1, -1, -1], 97), [5, 8])
+        self.assertEqual(remainder([3, 4], [1, -1, -1], 97), [3, 4])
+        self.assertEqual(remainder([-3, 98], [1, -1, -1], 97), [94, 1])
+
+    def test_power_of_x(self):
+        self.assertEqual(power_of_x(0, [1, -1, -1], 97), [1, 0])
+        self.assertEqual(power_of_x(1, [1, -1, -1], 97), [0, 1])
+        self.assertEqual(power_of_x(10, [1, -1, -1], 97), [34, 55])
+        self.assertEqual([power_of_x(at, [1, -3], 100) for at in (0, 1, 2, 5)], [[1], [3], [9], [43]])
 
 
 class GreatestTest(unittest.TestCase):

@@ -4,7 +4,22 @@ import random
 import unittest
 
 import reckoned
-from samples import LETTERS, both, error_of, grow, nest, opposed_system, pair, random_system, round_of, single, trio
+from samples import (
+    LETTERS,
+    bent_walks,
+    both,
+    error_of,
+    great_systems,
+    grow,
+    nest,
+    opposed_system,
+    pair,
+    random_system,
+    random_walk,
+    round_of,
+    single,
+    trio,
+)
 
 from farreads.levels import is_schedule, schedule
 from farreads.ready import endless_way, is_ready, shows_endless
@@ -19,55 +34,6 @@ def chance_systems(seed, many):
     chance = random.Random(seed)
     for number in range(many):
         yield random_system(chance, 1 + number % 3, 4, 7, chance.choice([1, 2, 5]), chance.choice([0, 1]))
-
-
-def great_systems(seed, many):
-    """Chains and rounds of six tables with twelve reads."""
-    chance = random.Random(seed)
-    for number in range(many):
-        dimensions, rows = 1 + number % 3, {name: [] for name in "abcdef"}
-        for at in range(12):
-            reader = "abcdef"[at % 6]
-            table = "bcdefa"[at % 6] if number % 2 or reader != "f" else chance.choice("abcdef")
-            if at >= 6 and chance.random() < 0.3:
-                table = chance.choice("abcdef")
-            rows[reader].append((table, tuple(chance.randint(-5, 5) for _ in range(dimensions)), 1))
-        yield System(dimensions, [(name, 0, rows[name]) for name in rows])
-
-
-def random_walk(chance, system, most):
-    """A list of named reads, each of the table that the one before reads; often closed."""
-    found = reckoned.edges(system)
-    walk = [chance.choice(sorted(found))]
-    for _ in range(chance.randint(0, most - 1)):
-        on = [read for read in sorted(found) if read[0] == found[walk[-1]][1]]
-        if not on or found[walk[-1]][1] == walk[0][0] and chance.random() < 0.5:
-            break
-        walk.append(chance.choice(on))
-    return walk
-
-
-def bent_walks(chance, system, walk):
-    """Walks that are a little other than another one, which is not empty."""
-    reads = system.all_reads()
-    at, other = chance.randrange(len(walk)), chance.randrange(len(walk))
-    exchanged = list(walk)
-    exchanged[at], exchanged[other] = walk[other], walk[at]
-    return [
-        walk[:at] + walk[at + 1:],
-        walk[:at] + [chance.choice(reads)] + walk[at:],
-        walk[:at] + [chance.choice(reads)] + walk[at + 1:],
-        walk[:at] + walk[at:at + 1] + walk[at:],
-        exchanged,
-        walk[::-1],
-        walk[at:] + walk[:at],
-        walk + walk,
-        walk * 3,
-        walk + [chance.choice([("a", -1), ("a", len(system.reads("a"))), ("q", 0), ("", 0)])],
-        [(name, number + 1) for name, number in walk],
-        random_walk(chance, system, 6),
-        random_walk(chance, system, 3) + walk,
-    ]
 
 
 class ClosedWalkTest(unittest.TestCase):
