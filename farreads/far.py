@@ -1,10 +1,12 @@
 """Values far out, in one dimension.
 
-There, with a schedule, the values of each table follow a rule from some place on: each is a sum of those
-a few places before it, each times a factor of its own. The sums of all reads make a matrix of
-polynomials, in which a read with the vector v stands at the exponent v. The determinant of the matrix that
-remains when it is taken from the one that changes nothing, times 1 - x for the constants, has these
-factors. Closed walks alone come into it; so no exponent is below 0, and the factor at 0 is 1.
+With a schedule, the values of each table follow a rule from some place on: each is a sum of a few values
+before it, each times a factor. For take the values of a table as the factors of a power series in x. A read
+with the vector v makes a product with x to the power v of it. So the equations of all tables are one, with
+a matrix M of polynomials: 1 - M times the series gives the constants divided by 1 - x, but for places below
+0. Hence each series, times the determinant of 1 - M and 1 - x, comes to an end, and the factors of this
+product make up the rule. Closed walks alone come into the determinant; so with a schedule no exponent in it
+is below 0, and the factor of the exponent 0 is 1.
 """
 
 from farreads.checks import check_top
@@ -24,6 +26,8 @@ def far_value(system, name, place):
     if place <= last:
         return near[(place,)]
     rule = value_rule(system)
+    # The value behind the last free place is the first one that follows the rule: those before it, as many as
+    # the rule has factors but for the first, make up all that come later.
     first = last + 2 - len(rule)
     weights = power_of_x(place - first, rule, system.modulus)
     return sum([weight * near[(first + at,)] for at, weight in enumerate(weights)]) % system.modulus
@@ -33,20 +37,20 @@ def last_free_place(system):
     """Return a place behind which all values follow the rule."""
     last = 0
     for name in system.names:
-        # What a table adds to an exponent in a product of the matrix's entries is at most this.
+        # Where the series come to an end, there are only products with at most one entry from each row.
         last += max([vector[0] for _, vector, _ in system.reads(name)] + [0])
     return last
 
 
 def value_rule(system):
-    """Return factors, the first one 1: the products of these and a value, the one before it .. have the sum 0."""
+    """Return the list of the factors, the first one 1, with which a value and those before it have the sum 0."""
     matrix = [[entry(system, reader, table) for table in system.names] for reader in system.names]
     found = multiply(determinant(matrix), {0: 1, 1: -1})
     return [found.get(exponent, 0) % system.modulus for exponent in range(max(found) + 1)]
 
 
 def entry(system, reader, table):
-    """Return the polynomial of the reads of one table from another, taken from 1 if they are the same."""
+    """Return the entry of 1 - M for the reads of one table from another."""
     found = {0: int(reader == table)}
     for other, vector, factor in system.reads(reader):
         if other == table:

@@ -41,9 +41,11 @@ def is_closed_walk(system, reads):
 def balanced_counts(dimensions, piece):
     """Return a dict that tells how often a closed walk that blocks takes each link of a piece of stuck links.
 
-    A walk can take the links so often if as many lead to each table as from it. Such counts, with a sum
-    of the vectors in no coordinate above 0, are the prices of the drops: that is what it costs in all
-    others together to make the drop for one link greater.
+    There is such a walk if no count is below 1, as many links lead to each table as from it, and the sum of
+    the vectors, each taken so often, is in no coordinate above 0. Now let each link have a part that is at
+    most 1 more than the drop for it, and let the sum of the parts be greatest. The prices of these
+    constraints are such counts: for the parts they are not below 1, for the heights as many lead to a table
+    as from it, and for the vector of the level the sum is not above 0.
     """
     links = list(piece.values())
     names = tables_of(links)
@@ -56,7 +58,7 @@ def balanced_counts(dimensions, piece):
 
 def round_trip(piece, counts):
     """Return a closed walk that takes each link of a piece as often as counts say."""
-    left = dict(counts)
+    left = {read: counts[read] for read in counts}
     walk = []
     trail = [list(piece)[0]]
     left[trail[0]] -= 1

@@ -106,6 +106,14 @@ class ReadSystemTest(unittest.TestCase):
         system = System(1, [("a", -FAR, [("a", (FAR,), FAR), ("a", (-FAR,), 1 - 10 * FAR)])], 10 * FAR - 1)
         self.assertTrue(read_system(show_system(system)) == system)
 
+    def test_long_texts(self):
+        reads = [("abcdefgh", (10 * FAR - 1, 1 - 10 * FAR, -FAR), 10 * FAR - 1)] * 11
+        system = System(3, [("abcdefgh", -FAR, reads), ("b", 99, [])], 10 * FAR - 1)
+        text = show_system(system)
+        self.assertGreater(len(text), 1900)
+        self.assertTrue(read_system(text) == system)
+        self.assertEqual(error_of(read_system, text + " "), ("Unreadable", text + " "))
+
     def test_a_system_that_is_read_is_like_any_other(self):
         system = read_system(PAIR)
         self.assertEqual([system.dimensions, system.modulus, system.names], [2, 97, ["a", "b"]])
@@ -221,6 +229,11 @@ class UnreadableSystemTest(unittest.TestCase):
             self.assertEqual(read_system(f"1 mod {modulus}: a = 0").modulus, modulus)
         for modulus in (1, 0, -1, -2, -97, 10 ** 40):
             self.check(f"1 mod {modulus}: a = 0")
+
+    def test_long_texts_that_are_none(self):
+        for sign in (" ", "a", "0", ";", ": ", "; ", "[", "]", "a[", "a[0] ", "+ a[0] ", "1 mod 9: a = 0 "):
+            text = (sign * 2000)[:2000]
+            self.check(text, "1 mod 9: a = 0 " + text[:1980], "1 mod 9: " + text[:1980])
 
     def test_letters_and_digits_beyond_the_plain_ones(self):
         self.check("1 mod \u0662: a = 0", "1 mod 9: \u00e4 = 0", "1 mod 9: a = \u00b2", "1\u00a0mod 9: a = 0", "1 mod 9:\ta = 0")
